@@ -52,7 +52,7 @@ func lasts(t testing.TB, w *world.World, rounds int) {
 	t.Helper()
 	rows := fmt.Sprint(w.Ctl().Rows(), w.Ctl().Chassis())
 	for i := range rounds {
-		goes(t, w, i%3 == 1, 2*len(w.Ctl().Chassis()))
+		goes(t, w, i%3 == 1, 2*len(w.Ctl().Chassis()), 0)
 		if !tail.Settled(w) || fmt.Sprint(w.Ctl().Rows(), w.Ctl().Chassis()) != rows {
 			t.Fatalf("P22.2: round %d behind it: %s", i, look(w))
 		}

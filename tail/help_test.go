@@ -253,10 +253,13 @@ func begins(t testing.TB, w *world.World) {
 	ok(t, tail.Begin(w))
 }
 
-// goes is a round that has no error: so many items come.
-func goes(t testing.TB, w *world.World, lost bool, want int) {
+// goes is a round that has no error, of so many letters, and so much data: it tells how many were delivered, which the letters of one that is lost were not.
+func goes(t testing.TB, w *world.World, lost bool, letters, data int) {
 	t.Helper()
-	now := w.Now()
+	now, want := w.Now(), letters+data
+	if lost {
+		want = data
+	}
 	if n, e := tail.Round(w, lost); n != want || e != api.OK {
 		t.Fatalf("Round %v: %d, %d; want %d", lost, n, e, want)
 	}

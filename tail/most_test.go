@@ -36,20 +36,36 @@ func widens(n *net.Net, room int) bool {
 	return false
 }
 
-// TestRoundOfMost: P22.1: of more than 65536 items the first 65536 come in a round, and the rest is under way till the next one; where no net is found in a world, or no room in a net, the test is left out.
+// TestRoundOfMost: P22.1: of more than 65536 items, letters and data by turns, the first 65536 are taken in a round, delivered or dropped, and the rest is under way till the next one; where no net is found in a world, or no room in a net, the test is left out.
 func TestRoundOfMost(t *testing.T) {
-	w, items := made(t, span, 1), 65540
+	for _, lost := range []bool{false, true} {
+		t.Run(map[bool]string{false: "delivered", true: "lost"}[lost], func(t *testing.T) {
+			t.Parallel()
+			mostOf(t, lost)
+		})
+	}
+}
+
+// mostOf checks a round of so many, lost or not, and the next one, that is not.
+func mostOf(t *testing.T, lost bool) {
+	w, items := made(t, span, 1), 65542
 	starts(t, w, 1)
-	// Data that is no packet does nothing when it comes.
-	if n := netOf(w); n == nil || !widens(n, 1<<20) || n.Put(slices.Repeat([]net.Item{{Kind: 2, Chassis: 1}}, items)...) != items {
+	// Data that is no packet, and what is no letter, does nothing when it comes.
+	turns := []net.Item{{Kind: 0, Chassis: 1}, {Kind: 2, Chassis: 1}, {Kind: 1, Chassis: 1}}
+	if n := netOf(w); n == nil || !widens(n, 1<<20) || n.Put(slices.Repeat(turns, items)[:items]...) != items {
 		t.Skip("there is no room for so many")
 	}
+	want := 65536
+	if lost {
+		want = 65536 / 3
+	}
 	// Behind them a letter goes each way.
-	if n, e := tail.Round(w, true); n != 65536 || e != api.OK || w.Len() != items+2-n {
-		t.Errorf("%d, %d, %d under way", n, e, w.Len())
+	if n, e := tail.Round(w, lost); n != want || e != api.OK || w.Len() != items+2-65536 {
+		t.Errorf("%d, %d, %d under way; want %d", n, e, w.Len(), want)
 	}
 	settled(t, w, false)
-	goes(t, w, false, items+2-65536+2)
+	// Of the six that are left two are data.
+	goes(t, w, false, 4+2+2, 2)
 	if w.Agent(1).Peer() != 1 || knows(t, w, 1) != 1 {
 		t.Errorf("what was left didn't come: %s", look(w))
 	}

@@ -43,15 +43,16 @@ func plainRound(w *world.World, lost bool) (int, api.Errno) {
 			w.Step(n)
 		}
 	}
-	count := 0
-	for ; w.Len() > 0 && count < 65536; count++ {
+	delivered := 0
+	for taken := 0; w.Len() > 0 && taken < 65536; taken++ {
 		if x, _ := w.At(0); lost && (x.Kind == 0 || x.Kind == 1) {
 			w.Drop(0)
-		} else {
-			w.Deliver(0)
+			continue
 		}
+		w.Deliver(0)
+		delivered++
 	}
-	return count, api.OK
+	return delivered, api.OK
 }
 
 // plainSettled tells anew whether a world is settled.

@@ -40,8 +40,8 @@ func TestRoundAtTheEnd(t *testing.T) {
 	for _, lost := range []bool{false, true} {
 		w := town(t)
 		ok(t, w.Tick(1<<40-2))
-		goes(t, w, lost, 8)
-		goes(t, w, lost, 8)
+		goes(t, w, lost, 8, 0)
+		goes(t, w, lost, 8, 0)
 		steps(t, w, nobody, 0, 1)
 		sends(t, w, 0, plainFrame(3))
 		stands(t, w, api.ErrArg)
@@ -51,10 +51,10 @@ func TestRoundAtTheEnd(t *testing.T) {
 // TestRoundOfNone: P22.1: with no member, and nothing under way, a tick passes, and nothing comes.
 func TestRoundOfNone(t *testing.T) {
 	w := made(t, span)
-	goes(t, w, false, 0)
-	goes(t, w, true, 0)
+	goes(t, w, false, 0, 0)
+	goes(t, w, true, 0, 0)
 	starts(t, w, 3)
-	goes(t, w, false, 0)
+	goes(t, w, false, 0, 0)
 }
 
 // TestRound: P22.1: of each member that is up a letter goes up, and one goes down to each, also to one that is down: all come.
@@ -63,7 +63,7 @@ func TestRound(t *testing.T) {
 		w := made(t, span, 0, 1, 2, 3)
 		l := bits(up)
 		starts(t, w, l...)
-		goes(t, w, false, 4+len(l))
+		goes(t, w, false, 4+len(l), 0)
 		for n := range 4 {
 			want := up >> n & 1
 			if got := knows(t, w, n); got != want {
@@ -73,7 +73,7 @@ func TestRound(t *testing.T) {
 				t.Errorf("%04b: %d knows boot %d", up, n, a.Peer())
 			}
 		}
-		goes(t, w, false, 4+len(l))
+		goes(t, w, false, 4+len(l), 0)
 	}
 }
 
@@ -81,7 +81,7 @@ func TestRound(t *testing.T) {
 func TestRoundOfOthers(t *testing.T) {
 	w := made(t, span, 1)
 	starts(t, w, 0, 1, 15)
-	goes(t, w, false, 2)
+	goes(t, w, false, 2, 0)
 	// They would be known, if they were members only when what they sent came.
 	adds(t, w, 0, 15)
 	for _, n := range []int{0, 15} {
@@ -92,9 +92,9 @@ func TestRoundOfOthers(t *testing.T) {
 	if w.Agent(1).Peer() != 1 || knows(t, w, 1) != 1 {
 		t.Error(look(w))
 	}
-	goes(t, w, false, 6)
+	goes(t, w, false, 6, 0)
 	does(t, w, asks(api.RemoveChassis, 0, 1))
-	goes(t, w, false, 4)
+	goes(t, w, false, 4, 0)
 }
 
 // ahead lets letters of each way, and data, be under way: one letter up of 0, one down to each member, and a frame from 0 to port 3 at 1.
@@ -126,7 +126,7 @@ func TestRoundOfWhatIsAhead(t *testing.T) {
 	talks(t, w, 4, 0, 1, 2, 3)
 	crashes(t, w, 2)
 	ahead(t, w)
-	goes(t, w, false, 6+4+3)
+	goes(t, w, false, 5+4+3, 1)
 	if l := delivered(w, 1); !slices.Equal(l, []int{1}) {
 		t.Errorf("delivered at %d", l)
 	}
@@ -135,13 +135,13 @@ func TestRoundOfWhatIsAhead(t *testing.T) {
 	}
 }
 
-// TestRoundThatIsLost: P22.1: of a round that is lost what goes up or down is dropped, ahead of it and in it, and counted; data is delivered.
+// TestRoundThatIsLost: P22.1: of a round that is lost what goes up or down is dropped, ahead of it and in it, and not counted; data is delivered, and is.
 func TestRoundThatIsLost(t *testing.T) {
 	w := town(t)
 	does(t, w, asks(api.Start, 3, 2))
 	rows, boots := w.Agent(0).Rows(), w.Ctl().Boot()
 	ahead(t, w)
-	goes(t, w, true, 6+4+4)
+	goes(t, w, true, 5+4+4, 1)
 	if l := delivered(w, 1); !slices.Equal(l, []int{1}) {
 		t.Errorf("delivered at %d", l)
 	}
@@ -153,7 +153,7 @@ func TestRoundThatIsLost(t *testing.T) {
 	if w.Lost() != 0 || w.Ctl().Boot() != boots {
 		t.Error(look(w))
 	}
-	goes(t, w, false, 8)
+	goes(t, w, false, 8, 0)
 	for n := range 4 {
 		if !slices.Equal(w.Agent(n).Rows(), w.Ctl().Rows()) {
 			t.Errorf("%d heard nothing: %s", n, look(w))
@@ -167,7 +167,7 @@ func TestRoundThatLosesAll(t *testing.T) {
 	does(t, w, asks(api.AddPort, 3, 1))
 	begins(t, w)
 	for range 50 {
-		goes(t, w, true, 8)
+		goes(t, w, true, 8, 0)
 	}
 	for n := range 4 {
 		if w.Agent(n).Peer() != 0 || knows(t, w, n) != 0 {
@@ -181,14 +181,14 @@ func TestRoundTicksFirst(t *testing.T) {
 	w := town(t)
 	does(t, w, asks(api.Start, 3, 2))
 	for i := range span - 1 {
-		goes(t, w, false, 8)
+		goes(t, w, false, 8, 0)
 		for n := range 4 {
 			if r := w.Agent(n).Rows()[0]; r.Phase != api.Moving {
 				t.Fatalf("round %d: %d has %+v", i, n, r)
 			}
 		}
 	}
-	goes(t, w, false, 8)
+	goes(t, w, false, 8, 0)
 	for n := range 4 {
 		if r := w.Agent(n).Rows()[0]; r.Phase != api.Bound || r.Since != span {
 			t.Errorf("%d has %+v", n, r)
@@ -200,7 +200,7 @@ func TestRoundTicksFirst(t *testing.T) {
 func TestRoundTellsTheTime(t *testing.T) {
 	w := town(t)
 	sends(t, w, 0, plainFrame(3))
-	goes(t, w, false, 9)
+	goes(t, w, false, 8, 1)
 	l := w.Events()
 	if len(l) != 2 || l[0].Time != 0 || l[1].Time != 1 {
 		t.Errorf("%+v", l)
@@ -210,12 +210,10 @@ func TestRoundTellsTheTime(t *testing.T) {
 // TestRoundOnward: P22.1: what is sent on in a round comes in it, too, lost or not: by an elder row, over the chassis where the port was.
 func TestRoundOnward(t *testing.T) {
 	for _, lost := range []bool{false, true} {
-		w := town(t)
-		does(t, w, asks(api.Start, 3, 2), asks(api.Commit, 3, 0))
-		tellsBut(t, w, 0)
+		w := turned(t)
 		id := sends(t, w, 0, plainFrame(3))
-		// Two letters go to each, of the rows, and of each one goes up; 1 tells the flows that it tracks.
-		goes(t, w, lost, 1+8+4+1)
+		// Two letters go to each, of the rows, and of each one goes up; data comes to 1, and on from there to 2.
+		goes(t, w, lost, 8+4, 2)
 		if l := delivered(w, id); !slices.Equal(l, []int{2}) {
 			t.Errorf("lost %v: delivered at %d", lost, l)
 		}
@@ -234,7 +232,7 @@ func TestRoundByMembers(t *testing.T) {
 		sends(t, w, w.Ctl().Rows()[i].Target, announces(i))
 	}
 	from := len(w.Events())
-	goes(t, w, false, 8)
+	goes(t, w, false, 8, 0)
 	var l []int
 	for _, x := range w.Events()[from:] {
 		if x.What == 0 {
@@ -264,7 +262,7 @@ func TestRoundByRoom(t *testing.T) {
 	for left := range 9 {
 		w := narrow(t, left)
 		came := min(left, 6)
-		goes(t, w, false, api.MaxFrames-left+came)
+		goes(t, w, false, api.MaxFrames-left+came, 0)
 		if w.Lost() != 6-came {
 			t.Errorf("room for %d: %d lost", left, w.Lost())
 		}
@@ -279,12 +277,16 @@ func TestRoundByRoom(t *testing.T) {
 	}
 }
 
-// TestRoundByRoomThatIsLost: P22.1: so it is where nothing comes; what is full is empty then.
+// TestRoundByRoomThatIsLost: P22.1: so it is where nothing comes, and nothing is delivered; what is full is empty then.
 func TestRoundByRoomThatIsLost(t *testing.T) {
 	for left := range 9 {
 		w := narrow(t, left)
-		goes(t, w, true, api.MaxFrames-left+min(left, 6))
-		goes(t, w, true, 6)
+		for _, letters := range []int{api.MaxFrames - left + min(left, 6), 6} {
+			goes(t, w, true, letters, 0)
+			if w.Lost() != max(6-left, 0) {
+				t.Errorf("room for %d: %d lost", left, w.Lost())
+			}
+		}
 	}
 }
 
@@ -300,7 +302,7 @@ func TestRoundOfMostOnward(t *testing.T) {
 		for w.Len() < api.MaxFrames {
 			ok(t, w.Double(0))
 		}
-		goes(t, w, lost, 2*api.MaxFrames)
+		goes(t, w, lost, 0, 2*api.MaxFrames)
 		if l := delivered(w, id); len(l) != api.MaxFrames || l[0] != 2 {
 			t.Errorf("delivered %d times", len(l))
 		}
@@ -312,8 +314,8 @@ func TestRoundOfAStopped(t *testing.T) {
 	w := town(t)
 	ok(t, w.Ctl().Half(asks(api.RemovePort, 3, 0)))
 	settled(t, w, false)
-	goes(t, w, false, 4)
-	goes(t, w, true, 4)
+	goes(t, w, false, 4, 0)
+	goes(t, w, true, 4, 0)
 	begins(t, w)
 	settled(t, w, false)
 	runs(t, w, 3, 0, 0, api.ErrState)
